@@ -1,0 +1,1 @@
+"""Crystalwords: patterns that come again, told exactly."""

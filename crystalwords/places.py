@@ -1,0 +1,24 @@
+"""Places: tuples (tops, under) in lowest terms, under from 1 on."""
+
+from crystalwords.errors import NoPlace
+from crystalwords.numbers import divisor
+
+
+def place(tops, under):
+    if under == 0:
+        raise NoPlace("the under of a place is 0")
+    if len(tops) == 0:
+        raise NoPlace("a place has no tops")
+    common = abs(under)
+    for top in tops:
+        common = divisor(common, top)
+    # The sign goes along, so that the under told is from 1 on.
+    if under < 0:
+        common = -common
+    return (tuple([top // common for top in tops]), under // common)
+
+
+def rest_place(one):
+    under = one[1]
+    # What divides under and a top divides under and the top's rest too: these are lowest terms already.
+    return (tuple([top % under for top in one[0]]), under)
