@@ -9,3 +9,29 @@ def divisor(one, other):
         greater = lesser
         lesser = remainder
     return greater
+
+
+def nearest(one, other):
+    """The whole number nearest to one divided by other; of two that are as near, the greater."""
+    return (2 * one + other) // (2 * other)
+
+
+def figures(number):
+    """The figures of a number from 0 on, however many."""
+    # Python's own str refuses numbers of more than some thousand figures, so it is given short pieces alone.
+    powers = [10 ** 64]
+    while powers[-1] * powers[-1] <= number:
+        powers.append(powers[-1] * powers[-1])
+    pieces = [number]
+    for power in reversed(powers):
+        pieces = halved(pieces, power)
+    text = "".join([str(piece).zfill(64) for piece in pieces]).lstrip("0")
+    return "0" if text == "" else text
+
+
+def halved(pieces, power):
+    shorter = []
+    for piece in pieces:
+        shorter.append(piece // power)
+        shorter.append(piece % power)
+    return shorter

@@ -1,7 +1,7 @@
 """A reader of the package's files: tells where one breaks a rule of LANGUAGE.md that can be seen in its tree.
 
-It sees the forms, names and sizes of rules L1, L2, L4 to L8, L10, L12, L14, L16, L17, L20, L25 and L27; what it
-doesn't see is still asked for.
+It sees the forms, names and sizes of rules L1 to L8, L10, L12, L14 to L18, L20, L21, L23, L25 and L27, not the whole
+of each; what it doesn't see is still asked for.
 """
 
 import ast
@@ -40,6 +40,9 @@ NODES = set(
 PLACE_OF = {"__main__.py": {"Import"}}
 SOURCES = (str, int, list, tuple, dict, set, bytes)
 DEFS = (ast.FunctionDef, ast.ClassDef)
+WALKS = set("zip enumerate reversed range".split())
+WALKERS = set("list tuple dict sorted sum any all enumerate zip min max".split())
+VIEWS = set("items keys values".split())
 
 
 def faults_of_text(text):
@@ -109,6 +112,67 @@ def faults_of_value(node):
         yield "L27", "a text with the sign for rests"
 
 
+def faults_of_power(node):
+    if isinstance(node, ast.BinOp) and isinstance(node.op, ast.Pow):
+        written = isinstance(node.right, ast.Constant) and node.right.value in range(65)
+        if not written:
+            yield "L27", "an exponent that is not written, from 0 to 64"
+
+
+def is_walk(node):
+    if not isinstance(node, ast.Call):
+        return False
+    if isinstance(node.func, ast.Name):
+        return node.func.id in WALKS
+    return isinstance(node.func, ast.Attribute) and node.func.attr in VIEWS
+
+
+def walked_at_once(node):
+    """What a node walks on the spot."""
+    if isinstance(node, (ast.For, ast.comprehension)):
+        yield node.iter
+    elif isinstance(node, ast.Call) and isinstance(node.func, ast.Name) and node.func.id in WALKERS:
+        yield from node.args if node.func.id == "zip" else node.args[:1]
+    elif isinstance(node, ast.Call) and isinstance(node.func, ast.Attribute) and node.func.attr == "join":
+        yield from node.args
+
+
+def faults_of_walks(tree):
+    walked = [part for node in ast.walk(tree) for part in walked_at_once(node)]
+    for node in ast.walk(tree):
+        if is_walk(node) and not any(node is part for part in walked):
+            yield "L23", f"line {node.lineno}: what is walked is kept"
+
+
+def faults_of_top(tree):
+    told = []
+    for node in tree.body:
+        text = isinstance(node, ast.Expr) and isinstance(node.value, ast.Constant)
+        if not text and not isinstance(node, DEFS + (ast.ImportFrom, ast.Import, ast.Assign, ast.If)):
+            yield "L3", f"line {node.lineno}: something is done at the file's top"
+        if isinstance(node, ast.ImportFrom):
+            told.extend(name.name for name in node.names)
+        elif isinstance(node, DEFS):
+            told.append(node.name)
+        elif isinstance(node, ast.Assign):
+            told.extend(target.id for target in node.targets if isinstance(target, ast.Name))
+    for name in sorted(set(told)):
+        if told.count(name) > 1:
+            yield "L15", f"{name} is bound more than once at the file's top"
+
+
+def faults_of_locals(tree):
+    kept = [node.name for node in tree.body if isinstance(node, ast.ClassDef)]
+    for node in tree.body:
+        if isinstance(node, ast.ImportFrom):
+            kept.extend(name.name for name in node.names)
+    for node in ast.walk(tree):
+        if not isinstance(node, DEFS):
+            for name in bound_names(node):
+                if name in kept:
+                    yield "L15", f"line {node.lineno}: {name} is called like a class or an import"
+
+
 def faults_of_statement(node):
     if isinstance(node, (ast.For, ast.While)) and node.orelse:
         yield "L6", "an else behind a loop"
@@ -120,6 +184,8 @@ def faults_of_statement(node):
         yield "L6", "an expression by itself that is no call"
     if isinstance(node, ast.ExceptHandler) and node.type is None:
         yield "L6", "an except without a class"
+    if isinstance(node, ast.FunctionDef) and (node.returns or any(part.annotation for part in node.args.args)):
+        yield "L21", f"{node.name} has an annotation"
     if isinstance(node, ast.ListComp):
         if len(node.generators) > 1 or len(node.generators[0].ifs) > 1:
             yield "L7", "a comprehension with more than one for and one if"
@@ -160,6 +226,7 @@ def faults_of_node(node, file, defined):
         if hasattr(builtins, node.id) and not own and node.id != "__name__":
             yield "L8", f"the name {node.id}"
     yield from faults_of_statement(node)
+    yield from faults_of_power(node)
 
 
 def faults(file, text, defined):
@@ -171,6 +238,9 @@ def faults(file, text, defined):
     for node in ast.walk(tree):
         for rule, remark in faults_of_node(node, file, defined):
             yield rule, f"line {getattr(node, 'lineno', 0)}: {remark}"
+    yield from faults_of_walks(tree)
+    yield from faults_of_top(tree)
+    yield from faults_of_locals(tree)
     for node in ast.walk(tree):
         inner = isinstance(node, (ast.FunctionDef, ast.ClassDef, ast.If, ast.For, ast.While, ast.Try))
         if inner and any(isinstance(part, (ast.ImportFrom, ast.ClassDef)) for part in node.body):
@@ -186,6 +256,16 @@ def defined_names(text):
         elif isinstance(node, ast.Assign):
             names.extend(target.id for target in node.targets if isinstance(target, ast.Name))
     return names
+
+
+def methods_and_values(text):
+    """The names that a file's text has as methods of its classes, and those that it gives as values to objects."""
+    tree = ast.parse(text)
+    methods = [part.name for node in ast.walk(tree) if isinstance(node, ast.ClassDef) for part in node.body
+               if isinstance(part, ast.FunctionDef)]
+    values = [node.attr for node in ast.walk(tree)
+              if isinstance(node, ast.Attribute) and isinstance(node.ctx, ast.Store)]
+    return methods, values
 
 
 def drawn_from(text):

@@ -3,12 +3,13 @@
 import pathlib
 import unittest
 
-from language_rules import PACKAGE, defined_names, drawn_from, faults
+from language_rules import PACKAGE, defined_names, drawn_from, faults, methods_and_values
 
 FOLDER = pathlib.Path(__file__).resolve().parent.parent / PACKAGE
 
 SENT_BACK = (
     ("L2", "from math import gcd\n"),
+    ("L3", "def one():\n    return 1\n\n\none()\n"),
     ("L4", "def one(*parts):\n    return parts\n"),
     ("L5", "class One:\n    value = 1\n"),
     ("L6", "def one(x):\n    with x:\n        pass\n"),
@@ -25,11 +26,21 @@ SENT_BACK = (
     ("L14", "# \u00e9\n"),
     ("L15", "def one(hash):\n    return hash\n"),
     ("L15", "def one():\n    from crystalwords.a import b\n    return b\n"),
+    ("L15", "from crystalwords.a import b\n\n\ndef one(b):\n    return b\n"),
+    ("L15", "from crystalwords.a import b\n\n\ndef one(x):\n    return [b for b in x]\n"),
+    ("L15", "class One:\n    pass\n\n\ndef one(x):\n    One = x\n    return One\n"),
+    ("L15", "A = 1\nA = 2\n"),
+    ("L15", "from crystalwords.a import b\n\n\ndef b(x):\n    return x\n"),
     ("L16", "from crystalwords.a import c\n"),
     ("L17", "# the type of it\n"),
     ("L20", "def one(x, y):\n    return x is y\n"),
+    ("L21", "def one(x: int):\n    return x\n"),
+    ("L23", "def one(x):\n    a = zip(x, x)\n    return list(a)\n"),
+    ("L23", "def one(x):\n    return x.items()\n"),
     ("L25", "def one(x):\n    x.sort()\n    return x\n"),
     ("L27", "def one(x):\n    return '%'\n"),
+    ("L27", "def one(x):\n    return 2 ** x\n"),
+    ("L27", "def one(x):\n    return x ** 65\n"),
 )
 
 
@@ -62,6 +73,15 @@ class Package(unittest.TestCase):
             self.assertTrue(free, f"these draw from one another: {sorted(left)}")
             for module in free:
                 del left[module]
+
+    def test_no_name_is_a_method_and_a_value(self):
+        methods, values = [], []
+        for text in texts().values():
+            told = methods_and_values(text)
+            methods.extend(told[0])
+            values.extend(told[1])
+        self.assertEqual(sorted(set(methods) & set(values)), [])
+        self.assertTrue(methods and values)
 
 
 class Rules(unittest.TestCase):

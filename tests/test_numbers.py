@@ -1,9 +1,10 @@
-"""divisor of crystalwords.numbers."""
+"""crystalwords.numbers."""
 
 import math
 import unittest
+from fractions import Fraction
 
-from crystalwords.numbers import divisor
+from crystalwords.numbers import divisor, figures, nearest
 
 HUNDRED_NINES = 10 ** 100 - 1
 LONG = (
@@ -65,6 +66,31 @@ class Divisor(unittest.TestCase):
         self.assertEqual(len(str(other)), 100)
         self.check(one, other, 1)
         self.check(one * 6, other * 6, 6)
+
+
+class Nearest(unittest.TestCase):
+    def test_every_small_pair(self):
+        for one in range(-30, 31):
+            for other in list(range(-12, 0)) + list(range(1, 13)):
+                with self.subTest(one=one, other=other):
+                    self.assertEqual(nearest(one, other), math.floor(Fraction(one, other) + Fraction(1, 2)))
+
+    def test_a_hundred_figures(self):
+        for one in LONG:
+            for other in LONG:
+                self.assertLessEqual(2 * abs(one - nearest(one, other) * other), other)
+
+
+class Figures(unittest.TestCase):
+    def test_few_figures(self):
+        for number in list(range(120)) + [10 ** k + step for k in range(3, 400) for step in (-1, 0, 1)]:
+            self.assertEqual(figures(number), str(number))
+
+    def test_more_figures_than_python_shows(self):
+        for many in (4300, 4301, 8192, 20000):
+            self.assertEqual(figures(10 ** many), "1" + "0" * many)
+            self.assertEqual(figures(10 ** many - 1), "9" * many)
+            self.assertEqual(figures(10 ** many // 3), "3" * many)
 
 
 if __name__ == "__main__":
