@@ -6,6 +6,11 @@ from crystalwords.errors import NoDeed, NoNumber, TooMany
 MOST_MEMBERS = 200
 
 
+def check_most(most):
+    if most < 1 or most > MOST_MEMBERS:
+        raise NoNumber("a group is allowed from 1 to 200 members")
+
+
 def check_axes(d, makers):
     if d not in (2, 3):
         raise NoDeed("a group has 2 or 3 axes")
@@ -35,8 +40,7 @@ def closed(d, makers, most):
 
 class Group:
     def __init__(self, d, makers, most=200):
-        if most < 1 or most > MOST_MEMBERS:
-            raise NoNumber("a group is allowed from 1 to 200 members")
+        check_most(most)
         check_axes(d, makers)
         words = closed(d, makers, most)
         self.dimension = d
@@ -65,3 +69,12 @@ class Group:
 
     def back_of(self, i):
         return self.at(back(self.ordered[i]))
+
+
+def group_of(d, deeds):
+    """The group closed from deeds, told with few makers: each at least doubles what came of those before it."""
+    group = Group(d, [])
+    for one in deeds:
+        if group.at(one) is None:
+            group = Group(d, group.makers() + [one])
+    return group

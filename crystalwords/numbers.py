@@ -11,6 +11,14 @@ def divisor(one, other):
     return greater
 
 
+def multiple(numbers):
+    """The least number from 1 on that each of some numbers, none of them 0, divides."""
+    least = 1
+    for number in numbers:
+        least = least // divisor(least, number) * abs(number)
+    return least
+
+
 def nearest(one, other):
     """The whole number nearest to one divided by other; of two that are as near, the greater."""
     return (2 * one + other) // (2 * other)

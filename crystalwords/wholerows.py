@@ -41,9 +41,17 @@ def cofactor(rows, i, k):
     return sign * determinant(without(rows, i, k))
 
 
+def crossed(rows):
+    """Of two rows or more: the rows that, times them, are the still rows times the determinant."""
+    size = len(rows)
+    return [[cofactor(rows, k, i) for k in range(size)] for i in range(size)]
+
+
+def scaled(rows, count):
+    return [[count * number for number in row] for row in rows]
+
+
 def inverse(rows):
     """Of two rows or more, of determinant 1 or -1: the rows that, times them, are the still rows."""
-    size = len(rows)
     # To divide by 1 or -1 is to multiply with it.
-    whole = determinant(rows)
-    return [[whole * cofactor(rows, k, i) for k in range(size)] for i in range(size)]
+    return scaled(crossed(rows), determinant(rows))

@@ -7,34 +7,12 @@ import unittest
 
 from crystalwords.deeds import back, behind, deed, move, rest, still
 from crystalwords.errors import CrystalError, NoDeed, NoNumber, TooMany
-from crystalwords.groups import Group
+from crystalwords.groups import Group, group_of
 from crystalwords.texts import read, shown
+from group_samples import GROUPS, makers_of
 from samples import (
     PLANE, SPACE, all_whole, frozen, great_place, great_rows, is_deed, no_list_twice, unimodular,
 )
-
-# Makers, with the number of members.
-PLANE_GROUPS = (
-    ("", 1), ("x,y", 1), ("x+5,y-3", 1), ("x+1/2,y", 2), ("x+1/2,y x,y+1/3", 6), ("x+1/6,y+1/4", 12),
-    ("-x,-y", 2), ("-x+1/3,-y+1/5", 2), ("-x,y", 2), ("-x,y+1/2", 2), ("y,x", 2), ("y+1/2,x", 4), ("-x,y x,-y", 4),
-    ("-x,-y -x+1/2,y", 4), ("-x,-y -x+1/2,y+1/2", 4), ("-x,-y y,x", 4), ("-y,x", 4), ("-y,x -x,y", 8),
-    ("-y,x -x+1/2,y+1/2", 8), ("-y,x-y", 3), ("-y,x-y -y,-x", 6), ("-y,x-y y,x", 6), ("x-y,x", 6), ("x-y,x y,x", 12),
-    ("x-y,x y,x x+1/2,y", 48), ("-y,x -x,y x+1/5,y", 200), ("x+1/200,y", 200), ("x+1/10,y x,y+1/20", 200),
-    ("-x,y -x,y -x,y", 2), ("-x,y+1/4", 4), ("-y,x -y,x+1/2", 16),
-)
-SPACE_GROUPS = (
-    ("", 1), ("x+1/2,y+1/2,z", 2), ("-x,-y,-z", 2), ("-x,-y,z+1/2", 2), ("-y,x-y,z+1/3", 3), ("x,y,-z", 2),
-    ("x+1/2,y,-z", 2), ("-y,x,z+1/4", 4), ("x-y,x,z+1/6", 6), ("z,x,y", 3), ("-y,x,z z,x,y", 24),
-    ("-y,x,z z,x,y -x,-y,-z", 48), ("-y,x,z z,x,y -x,-y,-z x+1/2,y+1/2,z x,y+1/2,z+1/2", 192),
-    ("-x,-y,z+1/2 -x,y+1/2,-z", 4), ("-x+1/2,-y,z+1/2 -x,y+1/2,-z+1/2 z,x,y", 12), ("y,-x,-z", 4), ("-z,-x,-y", 6),
-    ("x-y,x,z y,x,-z -x,-y,-z", 24), ("-x,-y,z+1/5", 10),
-)
-GROUPS = [(2, text, count) for text, count in PLANE_GROUPS] + [(3, text, count) for text, count in SPACE_GROUPS]
-
-
-def makers_of(text):
-    return [read(word) for word in text.split()]
-
 
 def done_word(d, makers, word, known=None):
     """What a word comes to; known keeps what came of the words' beginnings, so that long ones are soon done."""
@@ -97,7 +75,8 @@ class Closed(unittest.TestCase):
                 self.check(d, makers, group)
 
     def test_members_written_out(self):
-        self.assertEqual([shown(one) for one in Group(2, makers_of("-y,x")).members()], ["-x,-y", "-y,x", "y,-x", "x,y"])
+        turns = Group(2, makers_of("-y,x"))
+        self.assertEqual([shown(one) for one in turns.members()], ["-x,-y", "-y,x", "y,-x", "x,y"])
         self.assertEqual([shown(one) for one in Group(2, []).members()], ["x,y"])
         self.assertEqual(
             [shown(one) for one in Group(2, makers_of("-x,y+1/4")).members()],
@@ -244,6 +223,16 @@ class Lists(unittest.TestCase):
         one.words()[0].append(5)
         one.makers().append(5)
         self.assertEqual(self.told(one), self.told(other))
+
+
+class FewMakers(unittest.TestCase):
+    def test_the_same_members_of_few_makers(self):
+        for d, text, count in GROUPS:
+            group = Group(d, makers_of(text))
+            for deeds in (group.makers(), group.members(), group.members()[::-1]):
+                told = group_of(d, deeds)
+                self.assertEqual(told.members(), group.members())
+                self.assertLessEqual(2 ** len(told.makers()), count)
 
 
 class Refused(unittest.TestCase):

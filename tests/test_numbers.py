@@ -4,7 +4,7 @@ import math
 import unittest
 from fractions import Fraction
 
-from crystalwords.numbers import divisor, figures, nearest
+from crystalwords.numbers import divisor, figures, multiple, nearest
 
 HUNDRED_NINES = 10 ** 100 - 1
 LONG = (
@@ -66,6 +66,12 @@ class Divisor(unittest.TestCase):
         self.assertEqual(len(str(other)), 100)
         self.check(one, other, 1)
         self.check(one * 6, other * 6, 6)
+
+
+class Multiple(unittest.TestCase):
+    def test_least(self):
+        for numbers in ([], [1], [7], [4, 6], [6, 4, 10], [2, 3, 5, 7], [12, 18, 8], [HUNDRED_NINES, 9, HUNDRED_NINES]):
+            self.assertEqual(multiple(numbers), math.lcm(*numbers))
 
 
 class Nearest(unittest.TestCase):
