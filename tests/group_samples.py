@@ -96,3 +96,44 @@ class CallCase(unittest.TestCase):
         self.assertIs(type(caught.exception), wanted)
         self.assertEqual(state(handed), kept)
         return caught.exception
+
+
+# Point 33: the makers and the marks of the seventeen.
+SEVENTEEN = {
+    1: ("", (1, 1, 0, 4, 9)),
+    2: ("-x,-y", (2, 2, 0, 4, 1)),
+    3: ("-x,y", (2, 1, 1, 4, 3)),
+    4: ("-x,y+1/2", (2, 1, 0, 4, 3)),
+    5: ("y,x", (2, 1, 1, 2, 3)),
+    6: ("-x,y x,-y", (4, 2, 2, 4, 1)),
+    7: ("-x,-y -x+1/2,y", (4, 2, 1, 4, 1)),
+    8: ("-x,-y -x+1/2,y+1/2", (4, 2, 0, 4, 1)),
+    9: ("-x,-y y,x", (4, 2, 2, 2, 1)),
+    10: ("-y,x", (4, 4, 0, 2, 1)),
+    11: ("-y,x -x,y", (8, 4, 4, 2, 1)),
+    12: ("-y,x -x+1/2,y+1/2", (8, 4, 2, 2, 1)),
+    13: ("-y,x-y", (3, 3, 0, 1, 3)),
+    14: ("-y,x-y -y,-x", (6, 3, 3, 1, 3)),
+    15: ("-y,x-y y,x", (6, 3, 3, 1, 1)),
+    16: ("x-y,x", (6, 6, 0, 1, 1)),
+    17: ("x-y,x y,x", (12, 6, 6, 1, 1)),
+}
+# Groups that are not of the plane, or have other moves than whole ones.
+NOT_LEAST = (
+    (2, "x+1/2,y"), (2, "x+1/2,y+1/2"), (2, "-x,y+1/4"), (2, "y+1/2,x"), (2, "-y,x -y,x+1/2"), (2, "-y,x -x,y x+1/5,y"),
+    (2, "x+1/200,y"), (2, "x,y+1/3 -x,-y"), (3, ""), (3, "-x,-y,z"), (3, "-y,x,z"), (3, "x+1/2,y,z"),
+    (3, "-y,x,z z,x,y -x,-y,-z"), (3, "x,y,-z"),
+)
+
+
+def other_bases(chance):
+    """Changes with whole vectors of determinant 1 or -1: shears, exchanges, turned signs and what comes of them."""
+    great = chance.randint(10 ** 98, 10 ** 99)
+    for rows in (
+        ((1, 0), (0, 1)), ((0, 1), (1, 0)), ((-1, 0), (0, 1)), ((1, 0), (0, -1)), ((0, -1), (-1, 0)), ((1, 1), (0, 1)),
+        ((1, 0), (-1, 1)), ((2, 1), (1, 1)), ((1, great), (0, 1)), ((1, 0), (-great, 1)), ((great, 1), (-1, 0)),
+    ):
+        spot = chance.choice((((0, 0), 1), ((1, 1), 2), ((1, 2), 3), ((-7, 5), 12), great_place(chance, 2)))
+        yield change([(tuple(row), 1) for row in rows], spot)
+    for bound in (1, 2, 9, 10 ** 6, 10 ** 16):
+        yield whole_change(chance, 2, bound)
