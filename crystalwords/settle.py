@@ -7,7 +7,7 @@ from crystalwords.kinds import less_still
 from crystalwords.marks import marks, unlike
 from crystalwords.meets import whole_met
 from crystalwords.numbers import multiple
-from crystalwords.places import nought, place_less
+from crystalwords.places import nought, place_less, rest_place
 from crystalwords.seventeen import number_by, told_group
 from crystalwords.wholerows import determinant, dot, times, turned
 
@@ -80,7 +80,8 @@ def led_by(group, makers, way):
     if lacking is None:
         return None
     spot = spot_for(makers, lacking)
-    return None if spot is None else (way[0], old_place(spot, way))
+    # A whole move of the spot alters the members' places by whole numbers alone.
+    return None if spot is None else (way[0], rest_place(old_place(spot, way)))
 
 
 def first_led_by(group, makers):
