@@ -36,8 +36,9 @@ def is_number(word):
 
 
 def split_row(row):
-    if not isinstance(row, str) or row.splitlines() != [row]:
-        raise NoRow("a row is a text without line ends")
+    if not isinstance(row, str):
+        raise NoRow("a row is a text")
+    # Only the blank parts words: a line end or a tab is a sign of the word in which it stands.
     words = row.split(" ")
     if "" in words:
         raise NoRow("words stand with one blank between each two")

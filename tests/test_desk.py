@@ -25,6 +25,40 @@ KEPT = (
     "draw wide abc/cab", "draw x ab/cd",
 )
 
+# Signs that part rows or words elsewhere; here only the blank parts words.
+LINE_ENDS = ("\n", "\r", "\r\n", "\n\n", "\t", "\v", "\f", "\x1c", "\x85", "\u00a0", "\u2028", "\u2029")
+# What is asked for at rows with such a sign in the place of |.
+LINE_END_ROWS = {
+    NoRow: (
+        "|", "|size turns", "size|turns", "size| turns", "size turns|size turns", "size turns |", "| size turns",
+        "kind|", "kind|x,y", "member turns 1|", "member turns |1", "member turns 1|0", "group a 2|", "group a |2",
+        "group a 2| -y,x", "group A 2|", "spread new turns 1| 1 a", "spread new turns 1 |1 a", "draw new|ab",
+        "base new turns 1,0 0,1|0,0", "find new chess|plain", "lead turns 0,0|0,0", "same turns|turns",
+        "spread nothing| nothing 1 1| a",
+    ),
+    NoName: (
+        "size turns|", "size |turns", "size tu|rns", "group new| 2", "group |new 2 bad", "member turns| 0",
+        "has turns| x,y|", "alike turns| 0,0", "lead turns| 0,0 0,0|", "in turns| turns", "in turns turns|",
+        "cell new| turns", "cell new turns|", "base new| turns 1,0 0,1 0,0", "base new |turns 1,0 0,1 0,0|",
+        "settle turns|", "same turns| turns", "same turns turns|", "draw new| ab", "draw new| ab|", "show chess|",
+        "lay chess| x,y", "find new| chess plain|", "find new chess| plain|", "spread new| turns 1 1 a|",
+        "spread new turns| 1 1 a|", "spread new turns| 0 0 a", "size chess|", "size |",
+    ),
+    NoText: (
+        "has turns x,y|", "has turns |x,y", "has turns x|,y", "kind x,y|", "kind |", "kind |x,y", "kind x,|y",
+        "group new 2 -y,x|", "group new 2 |-y,x", "group new 2 -y,x| x,y", "group new 5 -y,x|", "group new 2 -y,x |",
+        "alike turns 0,0|", "alike turns |0,0", "alike turns 0,0,0|", "lead turns 0,0| 0,0", "lead turns 0,0 0,0|",
+        "lead turns 0,0,0 0,|0", "base new turns 1,0| 0,1 0,0", "base new turns 1,0 0,1 0,0|",
+        "base new turns 1,0 0,1 0,0 0,0|", "lay chess x,y|", "lay chess |x,y", "lay chess x,y,z|",
+    ),
+    NoDrawing: (
+        "draw new ab|", "draw new |ab", "draw new ab|ba", "draw new ab/|ba", "draw new |", "spread new turns 2 2 ab|",
+        "spread new turns 2 2 |ab", "spread new turns 2 2 a|b", "spread new turns 2 2 |", "spread new turns 2 3 ab|",
+        "spread new space 1 1 a|",
+    ),
+    NoSheet: ("find new chess plain|", "find new chess |plain", "find new chess |", "find new wide squ|are"),
+}
+
 
 def desk_told():
     desk = Desk()
@@ -340,15 +374,18 @@ class Refused(DeskCase):
         ):
             self.refused(NoRow, row)
 
-    def test_blanks_and_line_ends(self):
+    def test_blanks(self):
         for row in (
             " size turns", "size turns ", "size  turns", "group  a 2", "group a 2 ", "group a 2  -y,x", " kind x,y",
-            "kind x,y ", "size turns\n", "\nsize turns", "size\nturns", "size\tturns", "size turns\r\n",
-            "size turns\r", "kind x,y\n", "group a 2\n", "draw new ab\n", "draw new ab\nba", "\n", "size \nturns",
-            "size\n turns", "size turns\nsize turns", "draw new  ab", "size\u00a0turns", "find new chess plain\n",
-            "spread new turns 1 1 a\n", "member turns 1\n",
+            "kind x,y ", "draw new  ab", "size turns \n ", "size turns\n ", " size turns\n", "size  \nturns",
         ):
             self.refused(NoRow, row)
+
+    def test_line_ends_belong_to_their_words(self):
+        for end in LINE_ENDS:
+            for wanted, rows in LINE_END_ROWS.items():
+                for row in rows:
+                    self.refused(wanted, row.replace("|", end))
 
     def test_what_is_no_text(self):
         for row in (None, 0, 1, True, ["size", "turns"], ("size", "turns"), {}, b"size turns", ["size turns"]):
